@@ -124,7 +124,7 @@ func TestOpenOfSizeThatWouldNotBeWrittenSo(t *testing.T) {
 	}
 }
 
-// Of each size there is the right one alone, of numbers that have up to three bytes; the others have the right sum.
+// Sizes that are not that of the payload, though the sum is right: only the size itself is opened.
 func TestOpenOfWrongSize(t *testing.T) {
 	for _, size := range []int{0, 1, 2, 3, 100, 126, 127, 128, 129, 300} {
 		payload := xs(size)
